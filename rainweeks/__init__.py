@@ -1,0 +1,1 @@
+"""Rainweeks: matches put off for rain, week after week."""

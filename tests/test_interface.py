@@ -1,0 +1,78 @@
+"""Tests of the interface: the names, their parameters, and the files in which they are defined."""
+
+import ast
+import importlib
+import inspect
+import pathlib
+import unittest
+
+PACKAGE = pathlib.Path(__file__).resolve().parent.parent / "rainweeks"
+
+# A class with the parameters of its __init__, then its methods with theirs; None stands for a property.
+CLASSES = {
+    ("errors", "RainError"): {},
+    ("errors", "InvalidWeek"): {"__init__": "(self, word)"},
+    ("errors", "InvalidRule"): {"__init__": "(self, word)"},
+    ("errors", "InvalidMeasure"): {"__init__": "(self, word)"},
+    ("errors", "InvalidText"): {"__init__": "(self, at)"},
+    ("errors", "InvalidRain"): {"__init__": "(self, at)"},
+    ("errors", "InvalidSeen"): {"__init__": "(self, at)"},
+    ("errors", "InvalidCommand"): {"__init__": "(self)"},
+    ("errors", "Refused"): {"__init__": "(self, at)"},
+    ("weeks", "Week"): {
+        "__init__": "(self, days, matches)",
+        "sides": None,
+        "on": "(self, day)",
+        "read": "(text)",
+        "__len__": "(self)",
+        "__eq__": "(self, other)",
+        "__str__": "(self)",
+    },
+    ("rules", "Rule"): {
+        "__init__": "(self, gap, window, let, order='first')",
+        "but": "(self, gap=None, window=None, let=None, order=None)",
+        "__eq__": "(self, other)",
+        "__str__": "(self)",
+    },
+}
+
+
+def defined(module):
+    """The classes and functions that the file of a module defines itself, by their names."""
+    tree = ast.parse((PACKAGE / f"{module}.py").read_text())
+    return {node.name: node for node in tree.body if isinstance(node, (ast.ClassDef, ast.FunctionDef))}
+
+
+class TestInterface(unittest.TestCase):
+    def test_classes_are_defined_in_their_files(self):
+        for module, name in CLASSES:
+            with self.subTest(module=module, name=name):
+                self.assertIsInstance(defined(module).get(name), ast.ClassDef)
+
+    def test_methods_are_defined_in_the_class_itself(self):
+        for (module, name), methods in CLASSES.items():
+            body = defined(module)[name].body
+            own = [node.name for node in body if isinstance(node, ast.FunctionDef)]
+            for method in methods:
+                with self.subTest(name=name, method=method):
+                    self.assertIn(method, own)
+
+    def test_parameters(self):
+        for (module, name), methods in CLASSES.items():
+            there = getattr(importlib.import_module(f"rainweeks.{module}"), name)
+            for method, wanted in methods.items():
+                with self.subTest(name=name, method=method):
+                    found = getattr(there, method)
+                    if wanted is None:
+                        self.assertIsInstance(found, property)
+                    else:
+                        self.assertEqual(str(inspect.signature(found)), wanted)
+
+    def test_the_package_itself_is_empty_but_for_a_docstring(self):
+        tree = ast.parse((PACKAGE / "__init__.py").read_text())
+        self.assertEqual(len(tree.body), 1)
+        self.assertTrue(ast.get_docstring(tree))
+
+
+if __name__ == "__main__":
+    unittest.main()
