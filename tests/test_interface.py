@@ -34,6 +34,17 @@ CLASSES = {
         "__eq__": "(self, other)",
         "__str__": "(self)",
     },
+    ("rains", "Measure"): {"__init__": "(self, most, span)", "lets": "(self, rain)", "__eq__": "(self, other)"},
+    ("plays", "Played"): {},
+}
+
+FUNCTIONS = {
+    ("plays", "play"): "(week, rule, rain)",
+    ("deciding", "fails"): "(week, rule, measure)",
+    ("deciding", "losing"): "(week, rule, measure)",
+    ("deciding", "latest"): "(week, rule, measure)",
+    ("deciding", "most_waiting"): "(week, rule, measure)",
+    ("deciding", "standings"): "(week, rule, measure)",
 }
 
 
@@ -48,6 +59,13 @@ class TestInterface(unittest.TestCase):
         for module, name in CLASSES:
             with self.subTest(module=module, name=name):
                 self.assertIsInstance(defined(module).get(name), ast.ClassDef)
+
+    def test_functions_are_defined_in_their_files(self):
+        for (module, name), wanted in FUNCTIONS.items():
+            with self.subTest(module=module, name=name):
+                self.assertIsInstance(defined(module).get(name), ast.FunctionDef)
+                there = getattr(importlib.import_module(f"rainweeks.{module}"), name)
+                self.assertEqual(str(inspect.signature(there)), wanted)
 
     def test_methods_are_defined_in_the_class_itself(self):
         for (module, name), methods in CLASSES.items():

@@ -52,6 +52,11 @@ class TestLanguage(unittest.TestCase):
             if isinstance(node, ast.Div) or isinstance(node.value, (float, complex)):
                 self.fail(f"{name}: a float or a division")
 
+    def test_l7_no_generator_expressions(self):
+        # Some classes have an __eq__: any, all, min, max, sum and sorted take lists.
+        for name, node in nodes(ast.GeneratorExp):
+            self.fail(f"{name}, line {node.lineno}")
+
     def test_l8_builtins(self):
         known = dir(__builtins__) if not isinstance(__builtins__, dict) else list(__builtins__)
         for name, node in nodes(ast.Name):

@@ -1,6 +1,8 @@
 """Any values, as the document means them, for the tests of wrong arguments."""
 
 from rainweeks import errors
+from rainweeks.plays import play
+from rainweeks.rains import Measure
 from rainweeks.rules import Rule
 from rainweeks.weeks import Week
 
@@ -18,6 +20,8 @@ def objects():
         Week(4, [(0, "ann", "bob")]),
         Week(1, ()),
         Rule(1, 4, (1, 3)),
+        Measure(1, 3),
+        play(Week(1, ()), Rule(1, 4, ()), [True]),
         errors.RainError(),
         errors.InvalidWeek("days"),
         errors.InvalidCommand(),
@@ -46,6 +50,11 @@ def no_sequences():
 def no_numbers():
     """Any values that are no numbers."""
     return [-1, -(10**30), *no_integers()]
+
+
+def no_bools():
+    """Any values that are no bools."""
+    return [thing for thing in no_numbers() if not isinstance(thing, bool)] + [0, 1, 2, 10**30]
 
 
 def no_names():
