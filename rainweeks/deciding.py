@@ -5,7 +5,8 @@ week, what waits (triples: in how many days, how many days ago its own day was, 
 and the last rain. There are finitely many, and all rain is a way through them.
 """
 
-from rainweeks.plays import play_day
+from rainweeks.steps import days_let, first_rain, step
+from rainweeks.ways import search
 
 
 def fails(week, rule, measure):
@@ -15,12 +16,8 @@ def fails(week, rule, measure):
 
 def losing(week, rule, measure):
     """Some shortest rain on whose last day a match is lost, or None."""
-    came = _ways(week, rule, measure)
-    for standing in came:
-        for is_rainy, lost, _ in steps_from(week, rule, measure, standing):
-            if lost:
-                return (*_rain_to(came, standing), is_rainy)
-    return None
+    _, rain = search(first_standing(measure), lambda standing: _steps_to_a_loss(week, rule, measure, standing))
+    return rain
 
 
 def latest(week, rule, measure):
@@ -37,56 +34,34 @@ def most_waiting(week, rule, measure):
 
 def standings(week, rule, measure):
     """All standings that there can be ahead of a day, ascending."""
-    return tuple(sorted(_ways(week, rule, measure)))
+    came, _ = search(first_standing(measure), lambda standing: _steps_through(week, rule, measure, standing))
+    return tuple(sorted(came))
 
 
 def first_standing(measure):
     """The standing ahead of day 0."""
-    return (0, (), (False,) * (measure.span - 1))
+    return (0, (), first_rain(measure))
 
 
 def steps_from(week, rule, measure, standing):
-    """What one day more can do: triples (is_rainy, lost, standing behind), the dry day first."""
-    _, _, last_rain = standing
+    """What one day more can do: tuples (is_rainy, played, lost, standing behind), the dry day first.
+
+    What is played and what is lost are pairs (how many days ago its own day was, match).
+    """
+    today, waiting, last_rain = standing
     steps = []
-    for is_rainy in (False, True):
-        if measure.lets((*last_rain, is_rainy)):
-            lost, behind = _step(week, rule, standing, is_rainy)
-            steps.append((is_rainy, lost, behind))
+    for is_rainy, rain in days_let(measure, last_rain):
+        played, lost, waits = step(week, rule, today, waiting, is_rainy)
+        steps.append((is_rainy, played, lost, ((today + 1) % week.days, waits, rain)))
     return steps
 
 
-def _step(week, rule, standing, is_rainy):
-    """What is lost on the day ahead of which the standing is, and the standing behind it."""
-    today, waiting, last_rain = standing
-    there = [(today + days_ahead, today - days_ago, match) for days_ahead, days_ago, match in waiting]
-    _, lost, waits = play_day(week, rule, today, there, is_rainy)
-    tomorrow = today + 1
-    behind = sorted([(to - tomorrow, tomorrow - own_day, match) for to, own_day, match in waits])
-    rain = (*last_rain, is_rainy)
-    return lost, (tomorrow % week.days, tuple(behind), rain[1:])
+def _steps_to_a_loss(week, rule, measure, standing):
+    """The steps from a standing, for a search that ends where a match is lost."""
+    steps = steps_from(week, rule, measure, standing)
+    return [(is_rainy, len(lost) > 0, behind) for is_rainy, _, lost, behind in steps]
 
 
-def _ways(week, rule, measure):
-    """Each standing that there can be, those nearer to day 0 first, with (standing, is_rainy) of the day ahead."""
-    first = first_standing(measure)
-    came = {first: None}
-    layer = [first]
-    while layer:
-        next_layer = []
-        for standing in layer:
-            for is_rainy, _, behind in steps_from(week, rule, measure, standing):
-                if behind not in came:
-                    came[behind] = (standing, is_rainy)
-                    next_layer.append(behind)
-        layer = next_layer
-    return came
-
-
-def _rain_to(came, standing):
-    """The rain by which a standing was first reached."""
-    rain = []
-    while came[standing] is not None:
-        standing, is_rainy = came[standing]
-        rain.append(is_rainy)
-    return tuple(rain[::-1])
+def _steps_through(week, rule, measure, standing):
+    """The steps from a standing, for a search that goes on everywhere."""
+    return [(is_rainy, False, behind) for is_rainy, _, _, behind in steps_from(week, rule, measure, standing)]

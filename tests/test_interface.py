@@ -45,6 +45,15 @@ FUNCTIONS = {
     ("deciding", "latest"): "(week, rule, measure)",
     ("deciding", "most_waiting"): "(week, rule, measure)",
     ("deciding", "standings"): "(week, rule, measure)",
+    ("papers", "paper"): "(week, rule, measure)",
+    ("papers", "paper_holds"): "(week, rule, measure, value)",
+    ("comparing", "alike"): "(week, p, q, measure)",
+    ("comparing", "parting"): "(week, p, q, measure)",
+    ("comparing", "order_counts"): "(week, rule, measure)",
+    ("comparing", "never_later"): "(week, p, q, measure)",
+    ("comparing", "later"): "(week, p, q, measure)",
+    ("fewer", "perverse"): "(week, rule, measure)",
+    ("fewer", "perverse_rain"): "(week, rule, measure)",
 }
 
 
