@@ -102,6 +102,12 @@ def steps(week, rule, measure, standing):
     return [behind(week, rule, standing, is_rainy) for is_rainy in weathers]
 
 
+def loses(week, rule, measure):
+    """Whether a match can be lost."""
+    days = [day for there in walk(week, rule, measure) for day in steps(week, rule, measure, there)]
+    return any(lost for lost, _ in days)
+
+
 def closed(week, rule, measure, standings):
     """Those of some standings from which no match is lost, whatever comes, and no other one is reached."""
     after = {standing: steps(week, rule, measure, standing) for standing in standings}

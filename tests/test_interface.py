@@ -36,6 +36,16 @@ CLASSES = {
     },
     ("rains", "Measure"): {"__init__": "(self, most, span)", "lets": "(self, rain)", "__eq__": "(self, other)"},
     ("plays", "Played"): {},
+    ("live", "Live"): {
+        "__init__": "(self, week, rule)",
+        "day": "(self, is_rainy)",
+        "several": "(self, rain)",
+        "change": "(self, rule)",
+        "undo": "(self)",
+        "within": "(self, work)",
+        "__len__": "(self)",
+    },
+    ("desk", "Desk"): {"__init__": "(self)", "say": "(self, command)"},
 }
 
 FUNCTIONS = {
@@ -54,6 +64,12 @@ FUNCTIONS = {
     ("comparing", "later"): "(week, p, q, measure)",
     ("fewer", "perverse"): "(week, rule, measure)",
     ("fewer", "perverse_rain"): "(week, rule, measure)",
+    ("mending", "least_window"): "(week, rule, measure)",
+    ("mending", "spare_days"): "(week, rule, measure)",
+    ("mending", "wettest"): "(week, rule, span)",
+    ("telling", "fits"): "(week, rule, measure, seen)",
+    ("telling", "rains_of"): "(week, rule, measure, seen)",
+    ("telling", "surely"): "(week, rule, measure, seen)",
 }
 
 

@@ -9,7 +9,7 @@ from rainweeks.rains import Measure
 from rainweeks.rules import Rule
 from rainweeks.weeks import Week
 from tests.cases import MEASURES, RULE, WEEK, WEEKS, WET, rules
-from tests.model import closed, of_the_form, steps, walk
+from tests.model import closed, loses, of_the_form
 from tests.values import no_bools, no_integers, no_numbers, no_sequences, nested, objects, sequences
 
 DENSE = RULE.but(gap=1)
@@ -53,8 +53,7 @@ class TestPaper(TestCase):
     def test_none_where_a_match_can_be_lost(self):
         for week, rule, measure in cases((1, 4)):
             with self.subTest(told(week, rule, measure)):
-                days = [day for there in walk(week, rule, measure) for day in steps(week, rule, measure, there)]
-                can_be_lost = any(lost for lost, _ in days)
+                can_be_lost = loses(week, rule, measure)
                 self.assertIs(paper(week, rule, measure) is None, can_be_lost)
                 self.assertIs(fails(week, rule, measure), can_be_lost)
 

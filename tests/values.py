@@ -1,6 +1,8 @@
 """Any values, as the document means them, for the tests of wrong arguments."""
 
 from rainweeks import errors
+from rainweeks.desk import Desk
+from rainweeks.live import Live
 from rainweeks.plays import play
 from rainweeks.rains import Measure
 from rainweeks.rules import Rule
@@ -22,6 +24,8 @@ def objects():
         Rule(1, 4, (1, 3)),
         Measure(1, 3),
         play(Week(1, ()), Rule(1, 4, ()), [True]),
+        Live(Week(1, ()), Rule(1, 4, ())),
+        Desk(),
         errors.RainError(),
         errors.InvalidWeek("days"),
         errors.InvalidCommand(),
